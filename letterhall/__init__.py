@@ -1,0 +1,1 @@
+"""Letterhall: letters between houses, from the writing to the box."""
