@@ -59,3 +59,16 @@ def plain_sign(sign):
 def cut_up(text, size):
     """The text in pieces of this size, the last one of what is left; of no sign none."""
     return [text[at:at + size] for at in range(0, len(text), size)]
+
+
+def tupled(thing):
+    """The same with tuples for all lists, however deep; so nobody can change it any more."""
+    if isinstance(thing, (list, tuple)):
+        return tuple([tupled(one) for one in thing])
+    return thing
+
+
+def address_text(address):
+    """NAME@NAME of an address."""
+    name, house = address
+    return f"{name}@{house}"
