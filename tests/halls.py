@@ -164,6 +164,7 @@ class Walk:
     def __init__(self, seed):
         self.chance = random.Random(seed)
         self.hall = Hall(self.plan())
+        self.first = [("desk", who) for who in self.folk[:2] + self.folk[:1]] + [("rule", who, self.rules()) for who in self.folk[::2]]
 
     def plan(self):
         pick = self.chance
@@ -195,7 +196,7 @@ class Walk:
 
     def test(self, deep=4):
         pick = self.chance
-        word = pick.choice(("from", "to", "word", "about", "longer", "auto", "all") + ("not", "both", "any") * (deep > 1))
+        word = pick.choice(("from", "to", "word", "about", "longer", "auto", "all", "all") + ("not", "both", "any") * (deep > 1))
         if word in ("from", "to"):
             return (word, pick.choice(self.places))
         if word in ("word", "about"):
@@ -208,45 +209,54 @@ class Walk:
 
     def rules(self):
         pick = self.chance
-        deeds = (("file", "old"), ("file", "new"), ("mark", "seen"), ("mark", "hot"), ("drop",), ("stop",), ("answer", "gone"),
-                 ("answer", "back at 5"))
-        return tuple((self.test(), tuple(("on", pick.choice(self.places)) if pick.random() < 0.4 else pick.choice(deeds)
+        deeds = (("file", "old"), ("file", "new"), ("mark", "seen"), ("mark", "hot"), ("drop",), ("stop",)) + (("answer", "gone"), ("answer", "back at 5")) * 2
+        return tuple((self.test(pick.choice((1, 2, 4))), tuple(("on", pick.choice(self.places)) if pick.random() < 0.4 else pick.choice(deeds)
                                          for each in range(pick.randint(1, 3)))) for k in range(pick.randint(0, 3)))
 
-    def piece(self):
+    def piece(self, seen=()):
+        """Mostly one of those that are seen."""
+        if seen and self.chance.random() < 0.9:
+            return self.chance.choice(seen)
         return self.chance.randint(0, 12)
 
-    def deed_away(self):
+    def away(self):
+        """A desk, mostly one that there is, and a deed done there."""
         pick = self.chance
-        return pick.choice((("file", self.piece(), pick.choice(NAMES)), ("drop", self.piece()),
-                            ("mark", self.piece(), pick.choice(("seen", "hot")), pick.random() < 0.6),
-                            ("file", self.piece(), pick.choice(NAMES))))
+        desks = count_of(self.hall, "desk")
+        number = pick.randint(1, desks) if desks and pick.random() < 0.95 else desks + 1
+        seen = [] if number > desks else [row[0] for box in self.hall.desk_boxes(number) for row in self.hall.desk_pieces(number, box)]
+        piece = self.piece(seen)
+        return (number, pick.choice((("file", piece, pick.choice(NAMES)), ("mark", piece, pick.choice(("seen", "hot")), pick.random() < 0.6),
+                                     ("file", piece, pick.choice(NAMES)), ("drop", piece))))
 
     def some_people(self):
         return self.chance.choice((None, None, (), tuple(self.chance.sample(self.folk, 1)), tuple(self.folk[:2])))
 
     def entry(self):
-        """A deed that may be refused."""
+        """A deed that may be refused; first of all some rules and desks come into being."""
+        if self.first:
+            return self.first.pop()
         pick = self.chance
         who = pick.choice(self.folk)
-        words_by_weight = ("send",) * 8 + ("tick",) * 8 + tuple(ARGUMENTS) + ("away",) * 4 + ("rule", "meet", "meet", "file", "mark")
-        word = pick.choice(words_by_weight)
+        often = ("send", "tick") * 8 + ("away", "wake", "meet", "rule", "file") * 3 + ("mark", "hold", "tie", "share", "term", "drop")
+        word = pick.choice(often + tuple(ARGUMENTS))
         if word in ("cut", "tie") and not self.links:
             word = "tick"
         mail = self.hall.letters()
+        seen = self.hall.find(who, ALL)
         given = {
             "send": lambda: (who, self.some_addresses(), pick.choice(("", "tea", "a hall", "x" * 40)), self.body(),
                              pick.choice((None, mail - 1 if mail else None, pick.randint(0, mail)))),
-            "rule": lambda: (who, self.rules()), "tick": lambda: (pick.choice((1, 1, 1, 2, 5)),),
+            "rule": lambda: (who, self.rules()), "tick": lambda: (pick.choice((1, 1, 1, 2, 9)),),
             "shut": lambda: (pick.choice(self.names),), "wake": lambda: (pick.choice(self.names),),
             "cut": lambda: pick.choice(self.links), "tie": lambda: pick.choice(self.links)[::-1],
-            "file": lambda: (who, self.piece(), pick.choice(NAMES)), "drop": lambda: (who, self.piece()),
-            "mark": lambda: (who, self.piece(), pick.choice(("seen", "hot")), pick.random() < 0.6),
+            "file": lambda: (who, self.piece(seen), pick.choice(NAMES)), "drop": lambda: (who, self.piece(seen)),
+            "mark": lambda: (who, self.piece(seen), pick.choice(("seen", "hot")), pick.random() < 0.6),
             "share": lambda: (who, pick.choice(NAMES), pick.choice(self.folk),
                               tuple(pick.sample(("see", "file", "mark", "drop"), pick.randint(0, 4)))),
-            "term": lambda: (who, pick.choice(NAMES), pick.choice((None, 1, 3, 9))),
-            "hold": lambda: (self.test(), self.some_people()), "release": lambda: (pick.randint(0, 4),),
-            "desk": lambda: (who,), "away": lambda: (pick.randint(1, 4), self.deed_away()), "meet": lambda: (pick.randint(1, 4),),
+            "term": lambda: (who, pick.choice(NAMES), pick.choice((None, 1, 2, 5))),
+            "hold": lambda: (self.test(), self.some_people()), "release": lambda: (pick.randint(0, max(0, count_of(self.hall, "hold") - 1)),),
+            "desk": lambda: (who,), "away": self.away, "meet": lambda: (pick.randint(1, max(1, count_of(self.hall, "desk"))),),
         }
         return (word, *given[word]())
 

@@ -16,7 +16,14 @@ INTERFACE = {
     "codes": ("coded", "written", "best_way"),
     "letters": ("is_body", "is_letter", "letter_rows", "letter_text", "read_letter"),
     "plans": ("is_address", "is_plan"),
+    "routes": ("next_house", "reached"),
+    "rules": ("is_test", "is_rules", "words_of", "holds", "judged"),
+    "queries": ("is_query",),
+    "hall": ("Hall",),
 }
+# What an attribute may not be called, beside the names of methods.
+BARRED_ATTRIBUTES = set("""items keys values pop update append clear extend insert remove reverse setdefault sort args encode decode hex
+    fromhex format format_map mro""".split())
 VALUES = {"codes": ("WAYS", "MOST_ROW")}
 
 ALLOWED_BUILTINS = set("""len range enumerate zip min max sum abs sorted reversed int str bool bytes list tuple dict set
@@ -156,6 +163,50 @@ class Language(unittest.TestCase):
                 if isinstance(node, ast.Attribute) and isinstance(node.ctx, ast.Store):
                     attributes.add(node.attr)
         self.assertEqual(methods & attributes, set())
+        self.assertEqual(attributes & BARRED_ATTRIBUTES, set())
+
+    def test_attributes_are_assigned_through_local_names_and_read_where_one_is_assigned(self):
+        assigned, read = set(), set()
+        for path, text, tree in self.each():
+            called = {id(call.func) for call in calls_of(tree)}
+            for node in ast.walk(tree):
+                if isinstance(node, ast.Attribute) and isinstance(node.ctx, ast.Store):
+                    self.assertIsInstance(node.value, ast.Name, path.name)
+                    assigned.add(node.attr)
+                elif isinstance(node, ast.Attribute) and id(node) not in called:
+                    read.add(node.attr)
+        self.assertEqual(read - assigned, set())
+
+    def test_no_variable_has_the_name_of_a_class_or_an_import(self):
+        for path, text, tree in self.each():
+            taken = {node.name for node in tree.body if isinstance(node, ast.ClassDef)}
+            taken |= {alias.name for node in tree.body if isinstance(node, ast.ImportFrom) for alias in node.names}
+            classes = [node.name for node in tree.body if isinstance(node, ast.ClassDef)]
+            for name in bound_names(tree):
+                self.assertTrue(name not in taken or name in classes, (path.name, name))
+
+    def test_no_ring_of_imports(self):
+        behind = {}
+        for path, text, tree in self.each():
+            behind[path.stem] = {node.module.split(".")[1] for node in tree.body if isinstance(node, ast.ImportFrom)}
+        done = set()
+        while set(behind) - done:
+            ready = {name for name in behind if name not in done and behind[name] <= done}
+            self.assertTrue(ready, set(behind) - done)
+            done |= ready
+
+    def test_what_beside_a_class_that_is_compared_may_not_stand(self):
+        for path, text, tree in self.each():
+            for node in ast.walk(tree):
+                if isinstance(node, ast.Call) and isinstance(node.func, ast.Attribute):
+                    self.assertNotEqual(node.func.attr, "sort")
+                if isinstance(node, ast.Try):
+                    for handler in node.handlers:
+                        self.assertIn(handler.type.id, INTERFACE["errors"])
+                if isinstance(node, ast.BinOp) and isinstance(node.op, ast.Pow):
+                    self.assertIsInstance(node.right, ast.Constant)
+                if isinstance(node, (ast.Set, ast.SetComp, ast.Yield, ast.YieldFrom, ast.NamedExpr, ast.Match)):
+                    self.fail((path.name, node.lineno))
 
 
 if __name__ == "__main__":

@@ -5,11 +5,13 @@ import inspect
 import itertools
 import unittest
 
-from letterhall import codes, letters, plans
+from letterhall import codes, letters, plans, queries, routes, rules
 from letterhall.errors import BadLetter, NoCode, NoWay
 from tests.samples import PLAN, kinds, listed, part, parts, signs, tupled
 
 LETTER = ((("to", "x" * 61), ("by", "")), parts(part("a=b\n-0"), ((), parts(((), ("words", (0, 10, 65535)))))))
+TEST = ("both", ("not", ("from", ("ann", "elm"))), ("any", ("word", "b"), ("auto",)))
+RULES = ((TEST, (("on", ("ann", "elm")), ("file", "old"), ("answer", "x"))), (("longer", 0), (("mark", "hot"),)))
 ROWS = codes.coded(signs("a=b"), "marked")
 
 # Each function with all that it may be handed, by its names.
@@ -30,6 +32,15 @@ ASKS = [
     (letters.is_letter, {"thing": LETTER}),
     (plans.is_address, {"thing": ("ann", "elm")}),
     (plans.is_plan, {"thing": PLAN}),
+    (routes.next_house, {"plan": PLAN, "house": "elm", "goal": "oak"}),
+    (routes.next_house, {"plan": PLAN, "house": "elm", "goal": "yew"}),
+    (routes.reached, {"plan": PLAN, "address": ("all", "elm")}),
+    (rules.is_test, {"thing": TEST}),
+    (rules.is_rules, {"thing": RULES}),
+    (rules.words_of, {"letter": LETTER}),
+    (rules.holds, {"test": TEST, "letter": LETTER}),
+    (rules.judged, {"rules": RULES, "letter": LETTER}),
+    (queries.is_query, {"thing": TEST}),
 ]
 REFUSED = [
     (codes.coded, {"writing": (0,), "way": "plain"}, NoCode),
@@ -48,6 +59,14 @@ SIGNATURES = {
     letters.read_letter: "(text)",
     plans.is_address: "(thing)",
     plans.is_plan: "(thing)",
+    routes.next_house: "(plan, house, goal)",
+    routes.reached: "(plan, address)",
+    rules.is_test: "(thing)",
+    rules.is_rules: "(thing)",
+    rules.words_of: "(letter)",
+    rules.holds: "(test, letter)",
+    rules.judged: "(rules, letter)",
+    queries.is_query: "(thing)",
 }
 
 
@@ -133,7 +152,7 @@ class Promises(unittest.TestCase):
                 first[0] = "other"
                 self.assertEqual(kinds(second), ahead)
                 self.assertEqual(kinds(ask(**given)), ahead)
-        self.assertEqual(lists, 4)
+        self.assertEqual(lists, 5)
 
     def test_what_was_told_may_be_handed_in_again(self):
         rows = letters.letter_rows(LETTER)
@@ -151,6 +170,12 @@ class Promises(unittest.TestCase):
             deep = ((("abcdefghij", "y" * 400),) * 70, parts(*[deep] * 5)) if k < 2 else ((), parts(deep))
         letters.letter_text(deep)
         letters.letter_rows(((), parts()))
+        rules.words_of(deep)
+        test = ("auto",)
+        for k in range(9):
+            test = ("not", ("any", test, ("longer", 20000)))
+        rules.holds(test, deep)
+        rules.judged(((test, (("drop",),) * 9),) * 9, deep)
 
 
 if __name__ == "__main__":
