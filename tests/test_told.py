@@ -164,6 +164,24 @@ class Alike(unittest.TestCase):
             self.assertEqual((told(twin), twin.calls()), (ahead, calls))
 
 
+    def test_twin_knows_stamps_and_answers(self):
+        hall = one_house("ann", "bob")
+        hall.rule(BOB, on_all(("answer", "x")))
+        send(hall, ANN, BOB)
+        hall.desk(BOB)
+        hall.away(1, ("file", 0, "desk"))
+        hall.away(1, ("mark", 0, "hot", False))
+        for turn in range(3):
+            hall.mark(BOB, 0, "hot")
+        hall.file(BOB, 0, "house")
+        twin = hall.twin()
+        for one in (hall, twin):
+            send(one, ANN, BOB)
+            self.assertEqual(one.meet(1), (2, 4))
+            self.assertEqual((one.letters(), one.boxes(BOB)), (3, [(BOB, "house"), (BOB, "in")]))
+            self.assertEqual(one.pieces(BOB, BOB, "house"), [(0, 0, 0, ("hot",))])
+
+
 class Asks(unittest.TestCase):
 
     def test_states_of_each_sort(self):
