@@ -10,6 +10,8 @@ NEVER_PLAIN = 37
 
 MOST_NAME = 8
 
+FIGURES = "0123456789"
+
 
 def is_number(thing):
     """Whether it is a whole number: Python counts True and False among these, we don't."""
@@ -33,6 +35,13 @@ def is_plain_text(thing, least, most):
     if not isinstance(thing, str):
         return False
     return least <= len(thing) <= most and all([sign in PLAIN_SIGNS for sign in thing])
+
+
+def is_figures(text, most):
+    """Whether a text is a number in plain figures, at most so many, no nought ahead but 0 itself."""
+    if not 1 <= len(text) <= most or not all([figure in FIGURES for figure in text]):
+        return False
+    return text == "0" or text[0] != "0"
 
 
 def is_tuple(thing, least, most):
@@ -66,6 +75,16 @@ def tupled(thing):
     if isinstance(thing, (list, tuple)):
         return tuple([tupled(one) for one in thing])
     return thing
+
+
+def is_same(told, thing):
+    """Whether a thing is just what was told, kind by kind: True isn't 1, a list no tuple."""
+    if isinstance(told, (list, tuple)):
+        alike = isinstance(thing, list) if isinstance(told, list) else isinstance(thing, tuple)
+        if not alike or len(told) != len(thing):
+            return False
+        return all([is_same(one, other) for one, other in zip(told, thing)])
+    return isinstance(told, bool) == isinstance(thing, bool) and told == thing
 
 
 def address_text(address):

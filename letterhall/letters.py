@@ -1,6 +1,6 @@
 """Letters: what one is, its rows of text, and the letter read back from them."""
 
-from letterhall.basics import cut_up, is_name, is_plain_text, is_tuple, is_within
+from letterhall.basics import cut_up, is_figures, is_name, is_plain_text, is_tuple, is_within
 from letterhall.codes import MOST_ROW, MOST_SIGN, MOST_WRITING, WAYS, best_way, coded, written
 from letterhall.errors import BadLetter, NoWay
 
@@ -12,7 +12,6 @@ MOST_DEEP = 3
 # One less than MOST_ROW: a row with more of a value begins with a blank, which counts.
 MOST_MORE = 59
 
-FIGURES = "0123456789"
 MOST_MARK_FIGURES = 4
 
 
@@ -125,9 +124,7 @@ def letter_text(letter, *, ways=WAYS):
 
 def is_mark(text):
     """Whether a mark may be written so."""
-    if not 1 <= len(text) <= MOST_MARK_FIGURES or not all([figure in FIGURES for figure in text]):
-        return False
-    return text == "0" or text[0] != "0"
+    return is_figures(text, MOST_MARK_FIGURES)
 
 
 def is_more(row, room):

@@ -20,6 +20,10 @@ INTERFACE = {
     "rules": ("is_test", "is_rules", "words_of", "holds", "judged"),
     "queries": ("is_query",),
     "hall": ("Hall",),
+    "replays": ("replay", "as_of", "shows_log"),
+    "papers": ("fate_paper", "shows_fate", "hall_paper", "shows_hall", "way_paper", "shows_way", "desk_paper", "shows_desk"),
+    "texts": ("plan_text", "plan_in"),
+    "sheet": ("run",),
 }
 # What an attribute may not be called, beside the names of methods.
 BARRED_ATTRIBUTES = set("""items keys values pop update append clear extend insert remove reverse setdefault sort args encode decode hex
@@ -116,6 +120,29 @@ class Language(unittest.TestCase):
                 docstring = isinstance(node, ast.Expr) and isinstance(node.value, ast.Constant)
                 self.assertTrue(docstring or isinstance(node, (ast.ImportFrom, ast.FunctionDef, ast.ClassDef, ast.Assign)))
 
+    def test_tables_hold_functions_of_their_own_file_and_are_only_read(self):
+        for path, text, tree in self.each():
+            above, tables = set(), set()
+            for node in tree.body:
+                if isinstance(node, ast.FunctionDef):
+                    above.add(node.name)
+                if isinstance(node, ast.Assign):
+                    self.assertTrue({inner.id for inner in ast.walk(node.value) if isinstance(inner, ast.Name)} <= above, path.name)
+                    self.assertFalse([inner for inner in ast.walk(node.value) if isinstance(inner, (ast.List, ast.Dict)) and inner is not node.value], path.name)
+                    if isinstance(node.value, (ast.List, ast.Dict)):
+                        tables.add(node.targets[0].id)
+            for call in calls_of(tree):
+                handed = [*call.args, *[keyword.value for keyword in call.keywords]]
+                self.assertFalse([one for one in handed if isinstance(one, ast.Name) and one.id in tables], path.name)
+                self.assertNotIsInstance(call.func, ast.Subscript, path.name)
+
+    def test_each_function_has_a_docstring_or_a_name_of_pythons(self):
+        for path, text, tree in self.each():
+            self.assertIsNotNone(ast.get_docstring(tree), path.name)
+            for node in ast.walk(tree):
+                if isinstance(node, (ast.FunctionDef, ast.ClassDef)) and not node.name.startswith("__"):
+                    self.assertIsNotNone(ast.get_docstring(node), (path.name, node.name))
+
     def test_statements_and_values(self):
         for path, text, tree in self.each():
             for node in ast.walk(tree):
@@ -202,7 +229,8 @@ class Language(unittest.TestCase):
                     self.assertNotEqual(node.func.attr, "sort")
                 if isinstance(node, ast.Try):
                     for handler in node.handlers:
-                        self.assertIn(handler.type.id, INTERFACE["errors"])
+                        for kind in handler.type.elts if isinstance(handler.type, ast.Tuple) else [handler.type]:
+                            self.assertIn(kind.id, INTERFACE["errors"])
                 if isinstance(node, ast.BinOp) and isinstance(node.op, ast.Pow):
                     self.assertIsInstance(node.right, ast.Constant)
                 if isinstance(node, (ast.Set, ast.SetComp, ast.Yield, ast.YieldFrom, ast.NamedExpr, ast.Match)):
